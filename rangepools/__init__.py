@@ -1,0 +1,1 @@
+"""Rangepools: pools of two goods whose lenders choose ranges of prices."""
