@@ -2,8 +2,12 @@
 
 import unittest
 
-from kit import BIGGER, Raises, profile, rows, texts
-from rangepools.errors import BadNumber, BadRange, BadRoot, BadSize, Lacking, PoolError
+from kit import BIGGER, Raises, pool, profile, rows, texts
+from rangepools.compare import above, ahead, best_for, gains, less_at, never_less, same_until
+from rangepools.curves import chain_of, chained, curve_of, joined
+from rangepools.errors import (BadAmount, BadFee, BadGood, BadNumber, BadRange, BadRoot, BadSize, Lacking, NoWay,
+                               PoolError)
+from rangepools.pools import Pool, alike, most, needed, parting, rate, steps, to_root, trade
 from rangepools.profiles import Position, Profile
 from rangepools.ratios import Ratio, as_ratio, greater, lesser, total
 
@@ -56,6 +60,44 @@ class Lists(unittest.TestCase):
             ask().append(1)
             self.assertEqual(ask(), [])
 
+    def test_tuples_instead_of_lists_of_pools_and_curves(self):
+        made = pool("1 3 6", root=2)
+        curve = curve_of(made, "b")
+        self.assertTrue(chained((curve, curve)) == chained([curve, curve]) == chain_of((made, made), "bb"))
+        self.assertTrue(best_for((curve, curve), 1) == best_for([curve, curve], 1))
+        self.assertIsNone(best_for((), 1))
+
+    def test_lists_of_pools_and_curves_changed_after_they_were_passed_in(self):
+        positions = [Position(1, 3, 6)]
+        made = Pool(Profile(positions), 2, 0)
+        positions.append(Position(3, 4, 1))
+        self.assertTrue(made == pool("1 3 6", root=2) and most(made, "b") == 6)
+        pools, curves = [made, made], [curve_of(made, "b"), curve_of(made, "a")]
+        chain, other = chain_of(pools, "ba"), chained(curves)
+        told = best_for(curves, 1)
+        self.assertEqual((len(pools), len(curves)), (2, 2))
+        pools.pop()
+        curves.reverse()
+        self.assertTrue(chain == other and chain == chain_of([made, made], "ba"))
+        self.assertTrue(told == (1, Ratio(12, 4)))
+
+    def test_lists_of_steps_pieces_and_trades_changed_after_they_were_returned(self):
+        made, after = pool("1 3 6", "4 5 2", root=2), pool("1 3 6", "4 5 2", root=3)
+        curve = curve_of(made, "b")
+        for ask in (lambda: steps(made, "b", 7), curve.pieces, lambda: parting(made, after),
+                    joined(curve, curve_of(made, "a")).pieces, curve_of(after, "b").pieces):
+            whole = ask()
+            for change in (list.clear, list.reverse, list.pop, lambda found: found.append(0)):
+                found = ask()
+                change(found)
+                self.assertTrue(ask() == whole)
+                self.assertIsNot(ask(), found)
+        self.assertTrue(curve == curve_of(made, "b"))
+        self.assertEqual(texts([curve.end(), curve.told(7)]), ["8", "19/18"])
+        empty = curve_of(pool("1 3 6", root=3), "b")
+        empty.pieces().append(0)
+        self.assertEqual((empty.pieces(), steps(made, "b", 0)), ([], []))
+
 
 class Names(unittest.TestCase):
     def test_all_arguments_by_name(self):
@@ -67,11 +109,27 @@ class Names(unittest.TestCase):
             *made.without(position=Position.read(text="1 3 5")).holds(root=3)]),
             ["1/2", "1/3", "1/2", "3", "1", "2", "3", "6", "1", "6", "1", "6", "0", "2"])
 
+    def test_all_arguments_of_pools_curves_and_comparisons_by_name(self):
+        made = Pool(fee=0, root=2, profile=profile("1 3 6"))
+        curve = curve_of(good="b", pool=made)
+        ring = chain_of(goods="ba", pools=[made, made])
+        self.assertEqual(texts([
+            trade(amount=6, good="b", pool=made)[1], steps(amount=6, good="b", pool=made)[0][3],
+            most(good="a", pool=made), needed(wished=1, good="b", pool=made), rate(good="a", pool=made),
+            to_root(root=1, pool=made)[1], curve.told(amount=6), curve.needed(wished=1), curve.rate(amount=0),
+            joined(other=curve, one=curve).told(amount=0), chained(curves=[curve]).end(), same_until(other=curve, one=ring),
+            less_at(other=curve, one=curve) or Ratio(0), best_for(amount=6, curves=[curve])[1],
+            above(number=0, curve=curve) or Ratio(0)]),
+            ["1", "6", "3", "6", "4", "3", "1", "6", "1/4", "0", "6", "0", "0", "1", "0"])
+        self.assertEqual([alike(other=made, one=made), parting(other=made, one=made), never_less(other=curve, one=curve),
+                          ahead(other=curve, one=curve), gains(curve=ring)], [True, None, True, "same", False])
+
 
 class Values(unittest.TestCase, Raises):
     def test_objects_of_different_classes_are_not_equal(self):
         values = [Ratio(1), Position(1, 3, 6), Profile([Position(1, 3, 6)]), Profile([]), [Ratio(1)], (Ratio(1),), "1",
-                  None, BadNumber(1)]
+                  None, BadNumber(1), pool("1 3 6", root=2), pool(root=2), curve_of(pool("1 3 6", root=2), "b"),
+                  curve_of(pool(root=2), "b"), [], ()]
         for at, one in enumerate(values):
             for other in values[:at] + values[at + 1:]:
                 self.assertIs(one == other, False)
@@ -92,10 +150,38 @@ class Values(unittest.TestCase, Raises):
             self.assertEqual(texts([total([number(1), number(2)]), lesser(number(1), number(2))]), ["3", "1"])
             self.assertEqual(texts([greater(number(1), number(2)), Ratio(1).over(number(4))]), ["2", "1/4"])
 
+    def test_numbers_of_pools_and_curves_may_be_integers_or_ratios(self):
+        for number in (lambda top: top, Ratio, lambda top: Ratio(top * 7, 7)):
+            made = Pool(profile("1 3 6"), number(2), number(0))
+            self.assertTrue(made == pool("1 3 6", root=2))
+            curve = curve_of(made, "b")
+            after, taken, left = trade(made, "b", number(7))
+            self.assertEqual(texts([after.root, taken, left]), ["3", "1", "1"])
+            self.assertEqual(texts([steps(made, "b", number(6))[0][4], needed(made, "b", number(1)),
+                                    to_root(made, number(1))[1]]), ["1", "6", "3"])
+            self.assertEqual(texts([curve.told(number(6)), curve.needed(number(1)), curve.rate(number(0)),
+                                    best_for([curve], number(6))[1]]), ["1", "6", "1/4", "1"])
+            self.assertIsNone(above(curve, number(1)))
+
+    def test_what_is_returned_are_ratios(self):
+        made, other = pool("1 3 6", "4 5 2", root=2), pool("1 3 6", "4 5 2", root=3)
+        curve = curve_of(made, "b")
+        found = [made.root, made.fee, *trade(made, "b", 0)[1:], *trade(pool(root=1), "a", 0)[1:], *steps(made, "b", 7)[1],
+                 most(made, "a"), most(pool(root=1), "a"), needed(made, "b", 0), needed(pool(root=1), "b", 0),
+                 rate(made, "a"), *to_root(made, 2)[1:], *to_root(made, 3)[1:], parting(made, other)[0][1],
+                 *curve.pieces()[0], curve.end(), curve_of(other, "a").end(), curve.told(0), curve.needed(0),
+                 curve.rate(0), less_at(curve_of(other, "b"), curve), same_until(curve, curve),
+                 best_for([curve], 0)[1], above(curve_of(made, "a"), 0), same_until(curve, curve_of(other, "b"))]
+        for number in found:
+            self.assertIs(type(number), Ratio)
+
     def test_errors_are_pool_errors_of_the_class_that_is_named(self):
         for error, run in [(BadNumber, lambda: as_ratio(None)), (BadRange, lambda: Position(3, 1, 1)),
                            (BadSize, lambda: Position(1, 3, 0)), (BadRoot, lambda: Profile([]).holds(0)),
-                           (Lacking, lambda: Profile([]).without(Position(1, 2, 1)))]:
+                           (Lacking, lambda: Profile([]).without(Position(1, 2, 1))),
+                           (BadFee, lambda: Pool(Profile([]), 1, 1)), (BadGood, lambda: most(pool(root=1), "c")),
+                           (BadAmount, lambda: trade(pool(root=1), "a", -1)), (NoWay, lambda: to_root(pool(root=1), 2)),
+                           (BadGood, lambda: chain_of([], "")), (BadAmount, lambda: best_for([], -1))]:
             self.assertIsInstance(self.raised(error, run), PoolError)
             self.assertIsInstance(self.raised(error, run), ValueError)
 
@@ -105,6 +191,15 @@ class Values(unittest.TestCase, Raises):
             self.assertIs(self.raised(BadNumber, Position, 1, value, 0).given, value)
             self.assertIs(self.raised(BadRoot, Profile([]).size_at, value).given, value)
             self.assertIs(self.raised(BadRoot, Position(1, 3, 6).holds, value).given, value)
+            made = pool("1 3 6", root=2)
+            curve = curve_of(made, "b")
+            for error, run, before, behind in [
+                    (BadRoot, Pool, [made.profile], [0]), (BadFee, Pool, [made.profile, 2], []),
+                    (BadGood, trade, [made], [1]), (BadAmount, trade, [made, "a"], []), (BadGood, most, [made], []),
+                    (BadAmount, needed, [made, "b"], []), (BadRoot, to_root, [made], []), (BadGood, curve_of, [made], []),
+                    (BadAmount, curve.told, [], []), (BadAmount, curve.needed, [], []), (BadAmount, curve.rate, [], []),
+                    (BadGood, chain_of, [[made]], []), (BadAmount, best_for, [[curve]], []), (BadAmount, above, [curve], [])]:
+                self.assertIs(self.raised(error, run, *before, value, *behind).given, value)
 
     def test_nothing_is_changed_by_an_error(self):
         one = Position(1, 3, 6)
@@ -128,6 +223,21 @@ class Values(unittest.TestCase, Raises):
         whole = Position(Ratio(1).over(number), number, number)
         self.assertTrue(Position.read(whole.text()) == whole)
         self.assertTrue(Profile([whole]).without(whole) == Profile([]))
+
+    def test_pools_and_curves_somewhat_beyond_the_limits(self):
+        far = BIGGER ** 2 + 2
+        made = Pool(Profile([Position(Ratio(at, far), at + far, far) for at in range(1, 21)]), Ratio(7, far), Ratio(1, far))
+        chain = chain_of([made, Pool(made.profile, far, Ratio(far - 1, far)), made], "bab")
+        for good in "ab":
+            after, taken, left = trade(made, good, most(made, good))
+            self.assertTrue(left == 0 and curve_of(made, good).told(most(made, good)) == taken)
+            self.assertTrue(alike(after, Pool(made.profile, after.root, made.fee)))
+        self.assertTrue(chain.needed(chain.told(chain.end())) == chain.end())
+        self.assertTrue(never_less(chain, chain))
+        # What the package returned may be longer still.
+        again = Pool(made.profile, trade(made, "b", chain.end())[0].root, 0)
+        self.assertTrue(trade(again, "a", needed(again, "a", 1))[1] == 1)
+        self.assertEqual(len(parting(made, again)), 1)
 
 
 if __name__ == "__main__":

@@ -5,7 +5,7 @@ import inspect
 import os
 import unittest
 
-from rangepools import errors, profiles, ratios
+from rangepools import compare, curves, errors, pools, profiles, ratios
 
 PACKAGE = os.path.join(os.path.dirname(os.path.dirname(os.path.abspath(__file__))), "rangepools")
 
@@ -21,9 +21,22 @@ INTERFACE = {
                      "holds": ["root"], "text": [], "read": ["text"]},
         "Profile": {"__init__": ["positions"], "__eq__": ["other"], "__add__": ["other"], "ends": [],
                     "size_at": ["root"], "stretches": [], "positions": [], "without": ["position"], "holds": ["root"]}},
+    "pools": {
+        "Pool": {"__init__": ["profile", "root", "fee"], "profile": [], "root": [], "fee": [], "__eq__": ["other"]},
+        "trade": ["pool", "good", "amount"], "steps": ["pool", "good", "amount"], "most": ["pool", "good"],
+        "needed": ["pool", "good", "wished"], "rate": ["pool", "good"], "to_root": ["pool", "root"],
+        "alike": ["one", "other"], "parting": ["one", "other"]},
+    "curves": {
+        "Curve": {"__eq__": ["other"], "pieces": [], "end": [], "told": ["amount"], "needed": ["wished"],
+                  "rate": ["amount"]},
+        "curve_of": ["pool", "good"], "joined": ["one", "other"], "chained": ["curves"], "chain_of": ["pools", "goods"]},
+    "compare": {
+        "never_less": ["one", "other"], "less_at": ["one", "other"], "same_until": ["one", "other"],
+        "ahead": ["one", "other"], "best_for": ["curves", "amount"], "above": ["curve", "number"], "gains": ["curve"]},
 }
+FILES = {"ratios": ratios, "profiles": profiles, "pools": pools, "curves": curves, "compare": compare}
 PROPERTIES = [(ratios.Ratio, "top"), (ratios.Ratio, "bottom"), (profiles.Position, "low"), (profiles.Position, "high"),
-              (profiles.Position, "size")]
+              (profiles.Position, "size"), (pools.Pool, "profile"), (pools.Pool, "root"), (pools.Pool, "fee")]
 
 RATIOS = """
 >>> half = Ratio(-3, -6)
@@ -45,6 +58,40 @@ PROFILES = """
 (True, True)
 >>> profile.without(Position(1, 4, 1))
 raises Lacking()
+"""
+POOLS = """
+>>> pool = Pool(Profile([Position(1, 3, 6), Position(4, 5, 2)]), 2, Ratio(1, 10))
+>>> after, taken, left = trade(pool, "b", 10)
+>>> after.root.text(), taken.text(), left.text(), rate(pool, "b").text(), rate(pool, "a").text()
+('5', '11/10', '10/9', '9/40', '18/5')
+>>> [[number.text() for number in step] for step in steps(pool, "b", 7)]
+[['2', '3', '6', '20/3', '1'], ['4', '83/20', '2', '1/3', '3/166']]
+>>> most(pool, "b").text(), needed(pool, "b", 1).text(), to_root(pool, 1)[1].text(), len(parting(pool, Pool(pool.profile, 2, 0))) < 3
+('80/9', '20/3', '10/3', True)
+>>> to_root(pool, 6)
+raises NoWay(6)
+"""
+CURVES = """
+>>> pool = Pool(Profile([Position(1, 3, 6)]), 2, Ratio(1, 4))
+>>> curve = curve_of(pool, "b")
+>>> [[number.text() for number in piece] for piece in curve.pieces()], curve.told(4).text(), curve.needed(1).text(), curve.rate(0).text()
+([['0', '8', '3', '0', '16']], '3/5', '8', '3/16')
+>>> there = chain_of([pool, pool], "ba")
+>>> there.end().text(), there.told(8).text(), there == joined(curve, curve_of(pool, "a")), curve_of(Pool(pool.profile, 3, 0), "b").pieces()
+('8', '12/5', True, [])
+>>> curve.told(9)
+raises BadAmount(9)
+"""
+COMPARE = """
+>>> small, great = Pool(Profile([Position(1, 9, 2)]), 2, 0), Pool(Profile([Position(1, 9, 6)]), 3, 0)
+>>> one, other = curve_of(small, "b"), curve_of(great, "b")
+>>> ahead(one, other), never_less(one, other), one.told(less_at(one, other)) < other.told(less_at(one, other)), same_until(one, one) == one.end()
+('depends', False, True, True)
+>>> best_for([one, other], 2)[0], best_for([one, other], 12)[0], best_for([one], 100)
+(0, 1, None)
+>>> ring = chain_of([small, great], "ba")
+>>> gains(ring), above(ring, 1) is None, Ratio(0) < ring.told(above(ring, Ratio(1, 10))), gains(curve_of(great, "b"))
+(True, True, True, False)
 """
 
 
@@ -79,10 +126,14 @@ class Names(unittest.TestCase):
     def test_the_bottom_is_the_only_argument_with_a_default(self):
         signature = inspect.signature(ratios.Ratio)
         self.assertEqual(str(signature), "(top, bottom=1)")
-        for function in (profiles.Position, profiles.Profile, ratios.as_ratio, ratios.lesser, ratios.greater, ratios.total,
-                         ratios.Ratio.over, ratios.Ratio.read, profiles.Position.read, profiles.Position.holds,
-                         profiles.Profile.size_at, profiles.Profile.holds, profiles.Profile.without):
-            self.assertTrue(all(one.default is one.empty for one in inspect.signature(function).parameters.values()))
+        for file, listed in INTERFACE.items():
+            for name, wanted in listed.items():
+                found = getattr(FILES[file], name)
+                methods = [] if isinstance(wanted, list) else [getattr(found, method) for method in wanted]
+                for function in [found] + [method for method in methods if callable(method)]:
+                    defaults = [one.name for one in inspect.signature(function).parameters.values()
+                                if one.default is not one.empty]
+                    self.assertEqual(defaults, ["bottom"] if function in (ratios.Ratio, ratios.Ratio.__init__) else [])
 
     def test_properties_and_class_methods(self):
         for kind, name in PROPERTIES:
@@ -94,7 +145,9 @@ class Names(unittest.TestCase):
 class Examples(unittest.TestCase):
     def follow(self, text):
         """Each value that is shown is that of the line ahead of it."""
-        names = {**vars(errors), **vars(ratios), **vars(profiles)}
+        names = dict(vars(errors))
+        for file in FILES.values():
+            names.update(vars(file))
         found = None
         for line in text.strip().split("\n"):
             if not line.startswith(">>> "):
@@ -116,6 +169,15 @@ class Examples(unittest.TestCase):
 
     def test_profiles(self):
         self.follow(PROFILES)
+
+    def test_pools(self):
+        self.follow(POOLS)
+
+    def test_curves(self):
+        self.follow(CURVES)
+
+    def test_compare(self):
+        self.follow(COMPARE)
 
 
 if __name__ == "__main__":

@@ -4,8 +4,8 @@ import random
 import unittest
 from fractions import Fraction
 
-from kit import (BIG, BIGGER, NO_NUMBERS, Raises, fraction, fractions, position, profile, random_fraction, random_triple,
-                 ratio, rows, texts)
+from kit import (BIG, BIGGER, NO_NUMBERS, Raises, ends_of, fraction, fractions, position, profile, random_fraction,
+                 random_triple, random_triples, ratio, rows, size_at, texts)
 from rangepools.errors import BadRoot, Lacking
 from rangepools.profiles import Position, Profile
 from rangepools.ratios import Ratio
@@ -37,19 +37,9 @@ def words(stretches):
     return [text.split(" ") for text in stretches]
 
 
-def size_at(triples, root):
-    return sum((size for low, high, size in triples if low <= root < high), Fraction(0))
-
-
-def size_below(triples, root):
-    """The size just below a root price."""
-    return sum((size for low, high, size in triples if low < root <= high), Fraction(0))
-
-
 def stretches_of(triples):
     """The stretches, reckoned with the standard library: the ends are where the size changes."""
-    cuts = sorted({low for low, _, _ in triples} | {high for _, high, _ in triples})
-    ends = [cut for cut in cuts if size_at(triples, cut) != size_below(triples, cut)]
+    ends = ends_of(triples)
     return [(low, high, size_at(triples, low)) for low, high in zip(ends, ends[1:])]
 
 
@@ -59,14 +49,6 @@ def held(triples, root):
         at = min(max(root, low), high)
         a, b = a + size * (1 / at - 1 / high), b + size * (at - low)
     return [a, b]
-
-
-def random_triples(chance):
-    """Some positions, often with equal ends and sizes."""
-    if chance.random() < 0.5:
-        return [random_triple(chance) for _ in range(chance.randint(0, 5))]
-    lows = [chance.randint(1, 6) for _ in range(chance.randint(0, 7))]
-    return [(Fraction(low), Fraction(low + chance.randint(1, 3)), Fraction(chance.randint(1, 2))) for low in lows]
 
 
 class Stretches(unittest.TestCase):
