@@ -5,11 +5,16 @@ import unittest
 from kit import BIGGER, Raises, pool, profile, rows, texts
 from rangepools.compare import above, ahead, best_for, gains, less_at, never_less, same_until
 from rangepools.curves import chain_of, chained, curve_of, joined
-from rangepools.errors import (BadAmount, BadFee, BadGood, BadNumber, BadRange, BadRoot, BadSize, Lacking, NoWay,
-                               PoolError)
+from rangepools.errors import (BadAmount, BadFee, BadGood, BadName, BadNumber, BadPrices, BadRange, BadRing, BadRoot,
+                               BadRoute, BadSize, BadWeb, InUse, Lacking, NoGood, NoPool, NoPosition, NoWay, PoolError,
+                               TooMuch)
+from rangepools.keepers import Keeper
 from rangepools.pools import Pool, alike, most, needed, parting, rate, steps, to_root, trade
+from rangepools.prices import (are_fair, has_gained, is_ring, ring_above, ring_amount, ring_curve, ring_gains, traded,
+                               value_of)
 from rangepools.profiles import Position, Profile
-from rangepools.ratios import Ratio, as_ratio, greater, lesser, total
+from rangepools.ratios import Ratio, as_ratio, greater, is_positive, lesser, total
+from rangepools.webs import Web, best_route, better_route, is_best_route, leads_to, route_curve, routes, send
 
 
 class Lists(unittest.TestCase):
@@ -99,6 +104,19 @@ class Lists(unittest.TestCase):
         self.assertEqual((empty.pieces(), steps(made, "b", 0)), ([], []))
 
 
+    def test_tuples_instead_of_lists_of_webs_and_prices(self):
+        web = Web({"one": ("x", "y", pool("1 3 6", root=2)), "two": ("y", "x", pool("1 3 6", root=2))})
+        for kind in (list, tuple):
+            route, ring = kind(["one"]), kind([("one", "x"), ("two", "y")])
+            self.assertEqual((leads_to(web, "x", route), is_best_route(web, "x", "y", route)), ("y", False))
+            self.assertEqual(better_route(web, "x", "y", route)[0], ["two"])      # it takes more of x
+            self.assertTrue(route_curve(web, "x", route).told(3) == send(web, "x", route, 3)[1] == 6)
+            self.assertTrue(is_ring(web, ring) and ring_gains(web, ring) and ring_curve(web, ring).end() == 1)
+            self.assertTrue(is_positive(ring_amount(web, ring)))
+            self.assertEqual(texts(traded(web, kind([("one", "x", 3)]))[1].values()), ["-3", "6"])
+            self.assertEqual((list(route), list(ring)), (["one"], [("one", "x"), ("two", "y")]))
+
+
 class Names(unittest.TestCase):
     def test_all_arguments_by_name(self):
         made = Profile(positions=[Position(size=6, high=3, low=1)])
@@ -129,7 +147,8 @@ class Values(unittest.TestCase, Raises):
     def test_objects_of_different_classes_are_not_equal(self):
         values = [Ratio(1), Position(1, 3, 6), Profile([Position(1, 3, 6)]), Profile([]), [Ratio(1)], (Ratio(1),), "1",
                   None, BadNumber(1), pool("1 3 6", root=2), pool(root=2), curve_of(pool("1 3 6", root=2), "b"),
-                  curve_of(pool(root=2), "b"), [], ()]
+                  curve_of(pool(root=2), "b"), [], (), Web({}), Web({"a": ("x", "y", pool(root=2))}), {},
+                  {"a": ("x", "y", pool(root=2))}, Keeper(2, 0)]
         for at, one in enumerate(values):
             for other in values[:at] + values[at + 1:]:
                 self.assertIs(one == other, False)
@@ -149,6 +168,21 @@ class Values(unittest.TestCase, Raises):
             self.assertEqual(texts(made.holds(number(2))), ["1", "6"])
             self.assertEqual(texts([total([number(1), number(2)]), lesser(number(1), number(2))]), ["3", "1"])
             self.assertEqual(texts([greater(number(1), number(2)), Ratio(1).over(number(4))]), ["2", "1/4"])
+
+    def test_numbers_of_webs_and_keepers_may_be_integers_or_ratios(self):
+        for number in (lambda top: top, Ratio, lambda top: Ratio(top * 7, 7)):
+            web = Web({"one": ("x", "y", pool("1 3 6", root=2)), "two": ("y", "x", pool("1 3 6", root=2))})
+            self.assertEqual(texts([*web.trade("one", "x", number(4))[2:], send(web, "x", ["one"], number(3))[1],
+                                    best_route(web, "x", "y", number(3))[1], value_of({"x": number(2)}, {"x": number(3)})]),
+                             ["6", "1", "6", "6", "6"])
+            self.assertEqual(texts(traded(web, [("one", "x", number(4))])[1].values()), ["-3", "6"])
+            self.assertFalse(are_fair(web, {"x": number(1), "y": number(1)}))
+            self.assertTrue(has_gained({"x": number(1)}) and ring_above(web, number(0)) is not None)
+            keeper = Keeper(number(2), number(0))
+            self.assertEqual(texts(keeper.lend("ann", number(1), number(3), number(6))), ["1", "6"])
+            self.assertEqual(texts([*keeper.grow("ann", number(6)), *keeper.lessen("ann", number(6)), *keeper.trade("b", number(7))]),
+                             ["1", "6", "1", "6", "1", "1"])
+            self.assertEqual(texts([*keeper.position("ann"), *keeper.close("ann")]), ["1", "3", "6", "0", "12"])
 
     def test_numbers_of_pools_and_curves_may_be_integers_or_ratios(self):
         for number in (lambda top: top, Ratio, lambda top: Ratio(top * 7, 7)):
@@ -176,12 +210,20 @@ class Values(unittest.TestCase, Raises):
             self.assertIs(type(number), Ratio)
 
     def test_errors_are_pool_errors_of_the_class_that_is_named(self):
+        one_pool, lent = Web({"a": ("x", "y", pool(root=2))}), Keeper(1, 0)
+        lent.lend("a", 1, 2, 3)
         for error, run in [(BadNumber, lambda: as_ratio(None)), (BadRange, lambda: Position(3, 1, 1)),
                            (BadSize, lambda: Position(1, 3, 0)), (BadRoot, lambda: Profile([]).holds(0)),
                            (Lacking, lambda: Profile([]).without(Position(1, 2, 1))),
                            (BadFee, lambda: Pool(Profile([]), 1, 1)), (BadGood, lambda: most(pool(root=1), "c")),
                            (BadAmount, lambda: trade(pool(root=1), "a", -1)), (NoWay, lambda: to_root(pool(root=1), 2)),
-                           (BadGood, lambda: chain_of([], "")), (BadAmount, lambda: best_for([], -1))]:
+                           (BadGood, lambda: chain_of([], "")), (BadAmount, lambda: best_for([], -1)),
+                           (BadName, lambda: Web({"": None})), (BadWeb, lambda: Web({"a": None})),
+                           (NoPool, lambda: Web({}).joins("a")), (NoGood, lambda: routes(Web({}), "x", "y")),
+                           (BadRoute, lambda: leads_to(one_pool, "x", [])), (TooMuch, lambda: send(one_pool, "x", ["a"], 1)),
+                           (BadPrices, lambda: are_fair(one_pool, {})), (BadRing, lambda: ring_gains(one_pool, [])),
+                           (NoPosition, lambda: Keeper(1, 0).close("a")), (BadName, lambda: Keeper(1, 0).lend("", 1, 2, 3)),
+                           (InUse, lambda: lent.lend("a", 1, 2, 3)), (BadSize, lambda: lent.lessen("a", 4))]:
             self.assertIsInstance(self.raised(error, run), PoolError)
             self.assertIsInstance(self.raised(error, run), ValueError)
 

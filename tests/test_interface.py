@@ -5,7 +5,7 @@ import inspect
 import os
 import unittest
 
-from rangepools import compare, curves, errors, pools, profiles, ratios
+from rangepools import compare, curves, errors, keepers, pools, prices, profiles, ratios, webs
 
 PACKAGE = os.path.join(os.path.dirname(os.path.dirname(os.path.abspath(__file__))), "rangepools")
 
@@ -33,8 +33,24 @@ INTERFACE = {
     "compare": {
         "never_less": ["one", "other"], "less_at": ["one", "other"], "same_until": ["one", "other"],
         "ahead": ["one", "other"], "best_for": ["curves", "amount"], "above": ["curve", "number"], "gains": ["curve"]},
+    "webs": {
+        "Web": {"__init__": ["pools"], "__len__": [], "__eq__": ["other"], "names": [], "goods": [], "joins": ["name"],
+                "trade": ["name", "good", "amount"], "rate": ["name", "good"]},
+        "leads_to": ["web", "start", "route"], "routes": ["web", "start", "end"], "route_curve": ["web", "start", "route"],
+        "send": ["web", "start", "route", "amount"], "best_route": ["web", "start", "end", "amount"],
+        "is_best_route": ["web", "start", "end", "route"], "better_route": ["web", "start", "end", "route"]},
+    "prices": {
+        "are_fair": ["web", "prices"], "fair_prices": ["web"], "gaining_ring": ["web"], "is_ring": ["web", "ring"],
+        "ring_gains": ["web", "ring"], "ring_curve": ["web", "ring"], "ring_amount": ["web", "ring"],
+        "traded": ["web", "trades"], "has_gained": ["changes"], "value_of": ["changes", "prices"], "rings": ["web"],
+        "ring_above": ["web", "number"]},
+    "keepers": {
+        "Keeper": {"__init__": ["root", "fee"], "lend": ["name", "low", "high", "size"], "grow": ["name", "size"],
+                   "lessen": ["name", "size"], "trade": ["good", "amount"], "fees": ["name"], "collect": ["name"],
+                   "close": ["name"], "holds": [], "pool": [], "names": [], "position": ["name"], "twin": []}},
 }
-FILES = {"ratios": ratios, "profiles": profiles, "pools": pools, "curves": curves, "compare": compare}
+FILES = {"ratios": ratios, "profiles": profiles, "pools": pools, "curves": curves, "compare": compare, "webs": webs,
+         "prices": prices, "keepers": keepers}
 PROPERTIES = [(ratios.Ratio, "top"), (ratios.Ratio, "bottom"), (profiles.Position, "low"), (profiles.Position, "high"),
               (profiles.Position, "size"), (pools.Pool, "profile"), (pools.Pool, "root"), (pools.Pool, "fee")]
 
@@ -92,6 +108,46 @@ COMPARE = """
 >>> ring = chain_of([small, great], "ba")
 >>> gains(ring), above(ring, 1) is None, Ratio(0) < ring.told(above(ring, Ratio(1, 10))), gains(curve_of(great, "b"))
 (True, True, True, False)
+"""
+WEBS = """
+>>> profile = Profile([Position(1, 4, 6)])
+>>> web = Web({"one": ("oil", "salt", Pool(profile, 2, 0)), "two": ("salt", "tin", Pool(profile, 2, 0)), "six": ("tin", "oil", Pool(profile, 3, 0))})
+>>> web.goods(), web.names(), routes(web, "oil", "tin"), leads_to(web, "salt", ["one", "six"])
+(['oil', 'salt', 'tin'], ['one', 'six', 'two'], [['six'], ['one', 'two']], 'tin')
+>>> web.rate("six", "oil").text(), [part.text() for part in web.trade("one", "oil", 1)[2:]], web.trade("one", "oil", 1)[0].joins("one")[2].root.text()
+('1/9', ['3', '0'], '3/2')
+>>> send(web, "oil", ["six"], 6)[1].text(), route_curve(web, "oil", ["one", "two"]).end().text(), best_route(web, "oil", "tin", 1)[0]
+('1/2', '1', ['one', 'two'])
+>>> is_best_route(web, "oil", "tin", ["one", "two"]), better_route(web, "oil", "tin", ["one", "two"])[0]
+(False, ['six'])
+>>> web.rate("two", "oil")
+raises NoGood('oil')
+"""
+PRICES = """
+>>> profile = Profile([Position(1, 4, 6)])
+>>> web = Web({"one": ("oil", "salt", Pool(profile, 2, 0)), "two": ("salt", "tin", Pool(profile, 2, 0)), "six": ("tin", "oil", Pool(profile, 3, 0))})
+>>> fair_prices(web), ring_gains(web, gaining_ring(web)), rings(web)[0], len(rings(web))
+(None, True, [('one', 'oil'), ('two', 'salt'), ('six', 'tin')], 2)
+>>> ring = [("one", "oil"), ("two", "salt"), ("six", "tin")]
+>>> ring_amount(web, ring) < ring_curve(web, ring).told(ring_amount(web, ring)), ring_gains(web, [("six", "oil"), ("two", "tin"), ("one", "salt")])
+(True, False)
+>>> changes = traded(web, [("one", "oil", 1), ("two", "salt", 3)])[1]
+>>> [changes[good].text() for good in changes], has_gained(changes), ring_above(web, 100)
+(['-1', '0', '6'], False, None)
+>>> still = Web({"one": ("oil", "salt", Pool(profile, 2, Ratio(1, 2)))})
+>>> are_fair(still, {"oil": 4, "salt": 1}), are_fair(still, fair_prices(still)), are_fair(still, {"oil": 1, "salt": 1}), gaining_ring(still)
+(True, True, False, None)
+"""
+KEEPERS = """
+>>> keeper = Keeper(2, Ratio(1, 10))
+>>> [number.text() for number in keeper.lend("ann", 1, 3, 6)], [number.text() for number in keeper.lend("bob", 2, 5, 3)]
+(['1', '6'], ['9/10', '0'])
+>>> [number.text() for number in keeper.trade("b", 20)], [number.text() for number in keeper.fees("ann")], [number.text() for number in keeper.fees("bob")]
+(['19/10', '10/3'], ['0', '2/3'], ['0', '1'])
+>>> [number.text() for number in keeper.holds()], keeper.pool().root.text(), [number.text() for number in keeper.close("bob")]
+(['0', '68/3'], '5', ['0', '10'])
+>>> keeper.collect("bob")
+raises NoPosition('bob')
 """
 
 
@@ -178,6 +234,15 @@ class Examples(unittest.TestCase):
 
     def test_compare(self):
         self.follow(COMPARE)
+
+    def test_webs(self):
+        self.follow(WEBS)
+
+    def test_prices(self):
+        self.follow(PRICES)
+
+    def test_keepers(self):
+        self.follow(KEEPERS)
 
 
 if __name__ == "__main__":

@@ -10,9 +10,17 @@ PACKAGE = os.path.join(os.path.dirname(os.path.dirname(os.path.abspath(__file__)
 BUILTINS = set("""len range enumerate zip min max sum abs sorted reversed int str bool bytes list tuple dict set isinstance
     ord repr any all divmod iter next property classmethod staticmethod NotImplemented ValueError""".split())
 LIBRARY = {"math": {"gcd", "lcm", "isqrt"}, "itertools": {"product", "combinations", "permutations", "chain", "pairwise"}}
+METHODS = set("""append count endswith extend find get index insert isalnum isalpha isdigit islower items join keys partition pop
+    replace setdefault split startswith strip update values zfill isascii removeprefix removesuffix""".split())
+UNUSED = set("""register mro elements open input law version_info with_traceback add_note compile copyright dir eval exec exit
+    globals help id license locals os quit vars hash map filter round format object slice type""".split())
 BARRED = ["typing", "enum", "namedtuple", "dataclass", "overload", "contextmanager", "type", "register", "elements"]
-# Once a class compares, these take what is plainly numbers or strings only; this package needs none of them.
-ORDERED = {"sorted", "min", "max"}
+# Once a class compares, these take what is plainly numbers or strings only. This package needs sorted alone, over sets.
+ORDERED = {"min", "max"}
+
+
+def parameters_of(node):
+    return [argument.arg for argument in node.args.args]
 
 
 def files():
@@ -85,9 +93,43 @@ class Code(unittest.TestCase):
         for name, node in self.nodes(ast.arg):
             self.assertNotIn(node.arg, builtin, f"{name}:{node.lineno}")
 
+    def test_what_is_passed_to_builtins(self):
+        for name, node in self.nodes(ast.Call):
+            called = node.func.id if isinstance(node.func, ast.Name) else None
+            if called == "sorted":
+                self.assertEqual(ast.unparse(node)[:11], "sorted(set(", f"{name}:{node.lineno}")
+            # Where a class has an __eq__, these take a list.
+            if called in ("any", "all"):
+                self.assertIsInstance(node.args[0], ast.ListComp, f"{name}:{node.lineno}")
+        for name, node in self.nodes(ast.GeneratorExp, ast.Yield, ast.YieldFrom, ast.Set, ast.SetComp, ast.Lambda):
+            self.fail(f"{name}:{node.lineno}")
+
+    def test_methods_of_builtin_values_and_own_ones_alone_are_called(self):
+        own = {node.name for _, node in self.nodes(ast.FunctionDef)}
+        for name, node in self.nodes(ast.Call):
+            if isinstance(node.func, ast.Attribute):
+                self.assertIn(node.func.attr, own | METHODS, f"{name}:{node.lineno}")
+
+    def test_objects_for_with_only_assign_when_they_end(self):
+        for name, node in self.nodes(ast.FunctionDef):
+            if node.name == "__exit__":
+                self.assertEqual(parameters_of(node), ["self", "kind", "value", "trace"])
+                for row in node.body[1:]:
+                    self.assertRegex(ast.unparse(row), r"^\w+(\.\w+)? = self\.\w+$", name)
+
+    def test_names_that_are_not_used(self):
+        for name, node in self.nodes(ast.Name, ast.FunctionDef, ast.ClassDef, ast.arg, ast.keyword, ast.Attribute):
+            word = getattr(node, "id", None) or getattr(node, "name", None) or getattr(node, "arg", None) or getattr(node, "attr", None)
+            self.assertNotIn(word, UNUSED, name)
+        methods = [node for _, tree in self.nodes(ast.ClassDef) for node in tree.body if isinstance(node, ast.FunctionDef)]
+        properties = {node.name for node in methods if "property" in [ast.unparse(one) for one in node.decorator_list]}
+        self.assertEqual(properties & {node.name for node in methods if not node.decorator_list}, set())
+
     def test_no_statement_or_sign_that_is_left_out(self):
-        for name, node in self.nodes(ast.Global, ast.AsyncFunctionDef, ast.Await, ast.Div, ast.Delete):
+        for name, node in self.nodes(ast.Global, ast.AsyncFunctionDef, ast.Await, ast.Div):
             self.fail(f"{name}: {node}")
+        for name, node in self.nodes(ast.Delete):
+            self.assertTrue(all(isinstance(target, ast.Subscript) for target in node.targets), name)
         for name, node in self.nodes(ast.Constant):
             self.assertNotIsInstance(node.value, (float, complex), name)
             if isinstance(node.value, str):
