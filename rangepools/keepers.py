@@ -51,18 +51,20 @@ class Keeper:
     def trade(self, good, amount):
         """Let a trade come about; the tuple (taken, left) of what is taken and what is given back."""
         after, taken, left = trade(self.pool(), good, amount)
-        for name, place in list(self._positions.items()):
-            self._fees[name] = added(self._fees[name], self._share(place, good, after.root))
+        for name in self.names():
+            share = self._share(self._positions[name], good, after.root)
+            # Sums of fees grow long, and adding nothing to them would take its time, too.
+            if share != 0:
+                a, b = self._fees[name]
+                self._fees[name] = (a + share, b) if good == "a" else (a, b + share)
         self._root = after.root
         return taken, left
 
     def _share(self, place, good, root):
-        """The tuple (a, b) of the fees of a position for a trade that leads to a root price."""
-        (a, b), (a_behind, b_behind) = held_by(place, self._root), held_by(place, root)
-        part = self._fee.over(Ratio(1) - self._fee)
-        if good == "a":
-            return (a_behind - a) * part, Ratio(0)
-        return Ratio(0), (b_behind - b) * part
+        """The fees of a position, in the good that is put in, for a trade that leads to a root price."""
+        side = 0 if good == "a" else 1
+        gained = held_by(place, root)[side] - held_by(place, self._root)[side]
+        return (gained * self._fee).over(Ratio(1) - self._fee)
 
     def fees(self, name):
         """The tuple (a, b) of the fees of a position that have not been collected."""
@@ -77,10 +79,10 @@ class Keeper:
 
     def close(self, name):
         """Forget a position; the tuple (a, b) of all that is given out."""
-        given_out = added(held_by(self.position(name), self._root), self.fees(name))
+        (a, b), (fee_a, fee_b) = held_by(self.position(name), self._root), self._fees[name]
         del self._positions[name]
         del self._fees[name]
-        return given_out
+        return a + fee_a, b + fee_b
 
     def holds(self):
         """The tuple (a, b) of what all positions hold, and of all fees that have not been collected."""
@@ -118,8 +120,3 @@ def held_by(place, root):
     if not is_positive(size):
         return Ratio(0), Ratio(0)
     return Position(low, high, size).holds(root)
-
-
-def added(one, other):
-    """The tuple of the sums of the first and of the second numbers of two tuples."""
-    return one[0] + other[0], one[1] + other[1]

@@ -155,9 +155,7 @@ def pieces_of(pool, good):
 
 def parts_ahead(pool, good):
     """The list of the parts (start, end, size) that a trade can go through: levels, ascending, and sizes above 0."""
-    if good not in ("a", "b"):
-        raise BadGood(good)
-    now = level_of(good, pool.root)
+    now = level_of(as_good(good), pool.root)
     parts = [(level_of(good, one.low), level_of(good, one.high), one.size) for one in pool.profile.positions()]
     if good == "a":
         parts = [(high, low, size) for low, high, size in parts[::-1]]
@@ -177,6 +175,13 @@ def paid_for(pool, parts):
 def net_share(pool):
     """The part of what is put in that is exchanged."""
     return Ratio(1) - pool.fee
+
+
+def as_good(good):
+    """The letter of a good as it is."""
+    if good not in ("a", "b"):
+        raise BadGood(good)
+    return good
 
 
 def as_amount(amount):

@@ -156,7 +156,9 @@ def longer_rows(web, row):
 def ring_above(web, number):
     """The tuple (ring, amount) of a ring that makes of the amount more than it and a number, and None if none does."""
     further = as_amount(number)
-    for ring in rings(web):
+    # Rings that gain nothing at all need not be looked at more closely.
+    gaining = [ring for ring in rings(web) if ring_gains(web, ring)]
+    for ring in gaining:
         for first in range(len(ring)):
             turned = ring[first:] + ring[:first]
             amount = above(ring_curve(web, turned), further)

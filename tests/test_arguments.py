@@ -5,16 +5,20 @@ import unittest
 from kit import BIGGER, Raises, pool, profile, rows, texts
 from rangepools.compare import above, ahead, best_for, gains, less_at, never_less, same_until
 from rangepools.curves import chain_of, chained, curve_of, joined
-from rangepools.errors import (BadAmount, BadFee, BadGood, BadName, BadNumber, BadPrices, BadRange, BadRing, BadRoot,
-                               BadRoute, BadSize, BadWeb, InUse, Lacking, NoGood, NoPool, NoPosition, NoWay, PoolError,
-                               TooMuch)
+from rangepools.deeds import do_deed
+from rangepools.errors import (BadAmount, BadDeed, BadFee, BadGood, BadLine, BadName, BadNumber, BadPrices, BadRange, BadRing,
+                               BadRoot, BadRoute, BadShare, BadSize, BadSplit, BadWeb, InUse, Lacking, NoGood, NoPool,
+                               NoPosition, NothingToRedo, NothingToUndo, NoWay, PoolError, Short, TooMuch, UnlikeFees)
+from rangepools.house import House, read_house
 from rangepools.keepers import Keeper
 from rangepools.pools import Pool, alike, most, needed, parting, rate, steps, to_root, trade
 from rangepools.prices import (are_fair, has_gained, is_ring, ring_above, ring_amount, ring_curve, ring_gains, traded,
                                value_of)
 from rangepools.profiles import Position, Profile
 from rangepools.ratios import Ratio, as_ratio, greater, is_positive, lesser, total
+from rangepools.splits import best_split, yield_of
 from rangepools.webs import Web, best_route, better_route, is_best_route, leads_to, route_curve, routes, send
+from rangepools.worths import lag_at_most
 
 
 class Lists(unittest.TestCase):
@@ -148,7 +152,7 @@ class Values(unittest.TestCase, Raises):
         values = [Ratio(1), Position(1, 3, 6), Profile([Position(1, 3, 6)]), Profile([]), [Ratio(1)], (Ratio(1),), "1",
                   None, BadNumber(1), pool("1 3 6", root=2), pool(root=2), curve_of(pool("1 3 6", root=2), "b"),
                   curve_of(pool(root=2), "b"), [], (), Web({}), Web({"a": ("x", "y", pool(root=2))}), {},
-                  {"a": ("x", "y", pool(root=2))}, Keeper(2, 0)]
+                  {"a": ("x", "y", pool(root=2))}, Keeper(2, 0), House()]
         for at, one in enumerate(values):
             for other in values[:at] + values[at + 1:]:
                 self.assertIs(one == other, False)
@@ -212,6 +216,7 @@ class Values(unittest.TestCase, Raises):
     def test_errors_are_pool_errors_of_the_class_that_is_named(self):
         one_pool, lent = Web({"a": ("x", "y", pool(root=2))}), Keeper(1, 0)
         lent.lend("a", 1, 2, 3)
+        short = read_house("add one x y 1 0")
         for error, run in [(BadNumber, lambda: as_ratio(None)), (BadRange, lambda: Position(3, 1, 1)),
                            (BadSize, lambda: Position(1, 3, 0)), (BadRoot, lambda: Profile([]).holds(0)),
                            (Lacking, lambda: Profile([]).without(Position(1, 2, 1))),
@@ -223,7 +228,12 @@ class Values(unittest.TestCase, Raises):
                            (BadRoute, lambda: leads_to(one_pool, "x", [])), (TooMuch, lambda: send(one_pool, "x", ["a"], 1)),
                            (BadPrices, lambda: are_fair(one_pool, {})), (BadRing, lambda: ring_gains(one_pool, [])),
                            (NoPosition, lambda: Keeper(1, 0).close("a")), (BadName, lambda: Keeper(1, 0).lend("", 1, 2, 3)),
-                           (InUse, lambda: lent.lend("a", 1, 2, 3)), (BadSize, lambda: lent.lessen("a", 4))]:
+                           (InUse, lambda: lent.lend("a", 1, 2, 3)), (BadSize, lambda: lent.lessen("a", 4)),
+                           (UnlikeFees, lambda: best_split([pool(root=2), pool(root=2, fee="1/2")], "a", 0)),
+                           (BadSplit, lambda: yield_of([pool(root=2)], "a", [])), (BadDeed, lambda: do_deed(lent, None)),
+                           (BadShare, lambda: lag_at_most(Profile([]), 1, 2, 1, 1)), (NothingToUndo, House().undo),
+                           (NothingToRedo, House().redo), (Short, lambda: short.trade("ann", "one", "x", 1)),
+                           (BadLine, lambda: read_house("x"))]:
             self.assertIsInstance(self.raised(error, run), PoolError)
             self.assertIsInstance(self.raised(error, run), ValueError)
 

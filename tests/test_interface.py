@@ -5,7 +5,8 @@ import inspect
 import os
 import unittest
 
-from rangepools import compare, curves, errors, keepers, pools, prices, profiles, ratios, webs
+from rangepools import (compare, curves, deeds, errors, house, keepers, pools, prices, profiles, ratios, splits, webs,
+                        worths)
 
 PACKAGE = os.path.join(os.path.dirname(os.path.dirname(os.path.abspath(__file__))), "rangepools")
 
@@ -48,9 +49,36 @@ INTERFACE = {
         "Keeper": {"__init__": ["root", "fee"], "lend": ["name", "low", "high", "size"], "grow": ["name", "size"],
                    "lessen": ["name", "size"], "trade": ["good", "amount"], "fees": ["name"], "collect": ["name"],
                    "close": ["name"], "holds": [], "pool": [], "names": [], "position": ["name"], "twin": []}},
+    "splits": {
+        "together_most": ["pools", "good"], "best_split": ["pools", "good", "amount"],
+        "best_yield": ["pools", "good", "amount"], "common_root": ["pools", "good", "amount"],
+        "yield_of": ["pools", "good", "split"], "is_best": ["pools", "good", "split"],
+        "better_split": ["pools", "good", "split"], "union_curve": ["pools", "good"]},
+    "worths": {
+        "worth": ["profile", "root"], "kept_worth": ["profile", "root", "end"], "lag": ["profile", "root", "end"],
+        "worth_pieces": ["profile"], "worth_never_less": ["one", "other"], "worth_less_at": ["one", "other"],
+        "lag_at_most": ["profile", "root", "share", "low", "high"],
+        "lag_above_at": ["profile", "root", "share", "low", "high"],
+        "break_even": ["profile", "root", "a", "b", "low", "high"],
+        "loss_at": ["profile", "root", "a", "b", "low", "high"]},
+    "deeds": {
+        "do_deed": ["keeper", "deed"], "after_deeds": ["keeper", "deeds"], "agree": ["one", "other"],
+        "given_in_sum": ["given"], "change_places": ["keeper", "one", "other"],
+        "change_in_sum": ["keeper", "one", "other"], "always_change": ["one", "other"],
+        "against_change": ["one", "other"], "same_direction": ["one", "other"], "in_one": ["deeds"]},
+    "house": {
+        "House": {"__init__": [], "__len__": [], "add": ["pool", "good", "other", "root", "fee"],
+                  "pay": ["person", "good", "amount"], "purse": ["person"],
+                  "lend": ["person", "pool", "name", "low", "high", "size"], "grow": ["person", "pool", "name", "size"],
+                  "lessen": ["person", "pool", "name", "size"], "collect": ["person", "pool", "name"],
+                  "close": ["person", "pool", "name"], "owner": ["pool", "name"],
+                  "trade": ["person", "pool", "good", "amount"], "send": ["person", "start", "route", "amount"],
+                  "web": [], "fees": ["pool", "name"], "paid": [], "present": [], "undo": [], "redo": [], "trial": [],
+                  "supposed": ["text", "person"], "text": []},
+        "read_house": ["text"]},
 }
 FILES = {"ratios": ratios, "profiles": profiles, "pools": pools, "curves": curves, "compare": compare, "webs": webs,
-         "prices": prices, "keepers": keepers}
+         "prices": prices, "keepers": keepers, "splits": splits, "worths": worths, "deeds": deeds, "house": house}
 PROPERTIES = [(ratios.Ratio, "top"), (ratios.Ratio, "bottom"), (profiles.Position, "low"), (profiles.Position, "high"),
               (profiles.Position, "size"), (pools.Pool, "profile"), (pools.Pool, "root"), (pools.Pool, "fee")]
 
@@ -149,6 +177,59 @@ KEEPERS = """
 >>> keeper.collect("bob")
 raises NoPosition('bob')
 """
+SPLITS = """
+>>> low, high = Pool(Profile([Position(1, 4, 6)]), 1, 0), Pool(Profile([Position(1, 4, 3)]), 2, 0)
+>>> [part.text() for part in best_split([low, high], "b", 9)], best_yield([low, high], "b", 9).text(), common_root([low, high], "b", 9).text()
+(['8', '1'], '51/14', '7/3')
+>>> is_best([low, high], "b", [6, 3]), yield_of([low, high], "b", [6, 3]).text(), [part.text() for part in best_split([low, high], "b", 6)]
+(False, '7/2', ['6', '0'])
+>>> together_most([low, high], "a").text(), union_curve([low, high], "b").told(9).text()
+('3/2', '51/14')
+"""
+WORTHS = """
+>>> profile = Profile([Position(1, 4, 4)])
+>>> worth(profile, 2).text(), kept_worth(profile, 2, 4).text(), worth(profile, 4).text(), lag(profile, 2, 4).text(), lag(profile, 2, 1).text()
+('8', '20', '12', '8', '2')
+>>> [[number.text() for number in piece[2:]] for piece in worth_pieces(profile)], worth_pieces(profile)[2][1]
+([['3', '0', '0'], ['-1', '8', '-4'], ['0', '0', '12']], None)
+>>> lag_at_most(profile, 2, Ratio(2, 5), 1, 4), lag_above_at(profile, 2, Ratio(1, 5), 2, 3), lag_at_most(profile, 2, Ratio(1, 5), 1, 2)
+(True, None, False)
+>>> worth_never_less(Profile([Position(1, 4, 4)]), Profile([Position(1, 2, 4)])), break_even(profile, 2, 0, 2, 1, 3), break_even(profile, 2, 0, 2, 1, 4)
+(True, True, False)
+"""
+DEEDS = """
+>>> keeper, given = after_deeds(Keeper(2, Ratio(1, 10)), [("lend", "ann", 1, 4, 6), ("trade", "b", 10), ("collect", "ann")])
+>>> [[number.text() for number in pair] for pair in given], keeper.pool().root.text(), [number.text() for number in given_in_sum(given)]
+([['-3/2', '-6'], ['9/7', '-10'], ['0', '1']], '7/2', ['-3/14', '-15'])
+>>> change_places(keeper, ("trade", "a", 0), ("grow", "ann", 1)), change_places(keeper, ("trade", "a", 1), ("trade", "b", 1)), change_in_sum(keeper, ("trade", "a", 1), ("trade", "a", 2))
+(True, False, True)
+>>> always_change(("grow", "ann", 1), ("collect", "bob")), always_change(("trade", "a", 1), ("collect", "bob")), agree(keeper, keeper.twin())
+(True, False, True)
+>>> after, given = after_deeds(Keeper(2, Ratio(1, 10)), against_change(("trade", "a", 1), ("collect", "bob")))
+>>> change_places(after, ("trade", "a", 1), ("collect", "bob")), in_one([("trade", "a", 1), ("trade", "a", Ratio(1, 2)), ("trade", "b", 3)]) == [("trade", "a", Ratio(3, 2)), ("trade", "b", 3)]
+(False, True)
+>>> do_deed(keeper, ("sell", "a"))
+raises BadDeed(('sell', 'a'))
+"""
+HOUSE = r"""
+>>> house = House()
+>>> house.add("one", "oil", "salt", 2, Ratio(1, 10))
+>>> house.pay("ann", "oil", 5)
+>>> house.pay("ann", "salt", 10)
+>>> [number.text() for number in house.lend("ann", "one", "low", 1, 4, 6)], [number.text() for number in house.purse("ann").values()]
+(['3/2', '6'], ['7/2', '4'])
+>>> house.pay("bob", "salt", 10)
+>>> house.trade("bob", "one", "salt", 10)[1].text(), [number.text() for number in house.fees("one", "low")], list(house.purse("bob"))
+('9/7', ['0', '1'], ['oil'])
+>>> house.paid() == house.present(), len(house), house.owner("one", "low"), read_house(house.text()).text() == house.text()
+(True, 6, 'ann', True)
+>>> [number.text() for number in house.supposed("pay bob tin 3\ntrade bob one oil 1", "bob").values()], len(house)
+(['2/7', '441/61', '3'], 6)
+>>> house.text().split("\n")[3:]
+['lend ann one low 1 4 6', 'pay bob salt 10', 'trade bob one salt 10']
+>>> house.send("bob", "oil", ["one"], 2)
+raises Short('bob')
+"""
 
 
 def defined(body):
@@ -243,6 +324,18 @@ class Examples(unittest.TestCase):
 
     def test_keepers(self):
         self.follow(KEEPERS)
+
+    def test_splits(self):
+        self.follow(SPLITS)
+
+    def test_worths(self):
+        self.follow(WORTHS)
+
+    def test_deeds(self):
+        self.follow(DEEDS)
+
+    def test_house(self):
+        self.follow(HOUSE)
 
 
 if __name__ == "__main__":

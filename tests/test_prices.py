@@ -155,6 +155,10 @@ class Rings(unittest.TestCase, Raises):
         # One unit of x for 4 or 9 of y; in c, y is the good a: so it is 1/4 of y for one of x.
         self.assertEqual([ring_gains(web, ring) for ring in rings(web)], [False, True, True, True, False, False])
         self.assertEqual(gaining_ring(web), rings(web)[1])
+        # No good may occur in two tuples, although all names are different.
+        four = Web({name: ("x", "y", ONE) for name in "abcd"})
+        self.assertIs(is_ring(four, [("a", "x"), ("b", "y"), ("c", "x"), ("d", "y")]), False)
+        self.assertEqual((len(rings(four)), {len(ring) for ring in rings(four)}), (12, {2}))
         # A ring whose product is 1 does not gain.
         equal = Web({"a": ("x", "y", ONE), "b": ("x", "y", ONE)})
         self.assertEqual((gaining_ring(equal), len(rings(equal))), (None, 2))
